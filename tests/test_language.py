@@ -1,0 +1,93 @@
+"""The form of the package's files, as far as it is easily seen, and point [2]: no clock, chance or files."""
+
+import ast
+import builtins
+import pathlib
+import re
+import unittest
+
+import threewebs
+
+FOLDER = pathlib.Path(threewebs.__file__).parent
+OWN_NAMES = set(
+    "len range enumerate zip min max sum abs sorted reversed int str bool bytes list tuple dict set frozenset "
+    "isinstance ord repr any all divmod Exception ValueError TypeError KeyError IndexError LookupError "
+    "ZeroDivisionError ArithmeticError OverflowError RuntimeError NotImplementedError AttributeError "
+    "StopIteration".split()
+)
+WORDS_OUT = re.compile(
+    r"\b(type|typing|typing_extensions|enum|Enum|IntEnum|StrEnum|Flag|IntFlag|Generic|Protocol|ABC|ABCMeta|"
+    r"namedtuple|NamedTuple|TypedDict|TYPE_CHECKING|abstractmethod)\b|dataclass|overload|contextmanager"
+)
+NODES_OUT = (
+    ast.Import, ast.With, ast.Match, ast.Global, ast.Nonlocal, ast.Yield, ast.YieldFrom, ast.AsyncFunctionDef,
+    ast.Await, ast.GeneratorExp, ast.NamedExpr, ast.Div,
+)
+
+
+def files():
+    return sorted(FOLDER.rglob("*.py"))
+
+
+def nodes():
+    for file in files():
+        for node in ast.walk(ast.parse(file.read_text(encoding="utf-8"))):
+            yield file.name, node
+
+
+class Form(unittest.TestCase):
+    def test_nothing_but_plain_files(self):
+        for path in FOLDER.iterdir():
+            if path.name != "__pycache__":
+                self.assertRegex(path.name, r"\A([a-z][a-z0-9_]*|__init__|__main__)\.py\Z")
+
+    def test_signs_and_sizes(self):
+        for file in files():
+            data = file.read_bytes()
+            self.assertTrue(all(code == 10 or 32 <= code <= 126 for code in data), file)
+            lines = data.decode("ascii").split("\n")
+            self.assertLessEqual(len(lines), 400, file)
+            self.assertLessEqual(max(len(line) for line in lines), 120, file)
+
+    def test_words_that_stand_nowhere(self):
+        for file in files():
+            self.assertIsNone(WORDS_OUT.search(file.read_text(encoding="utf-8")), file)
+
+    def test_small_defs_without_decorators(self):
+        for name, node in nodes():
+            if isinstance(node, ast.FunctionDef):
+                self.assertLessEqual(node.end_lineno - node.lineno + 1, 40, (name, node.name))
+                self.assertEqual(node.decorator_list, [], (name, node.name))
+
+    def test_imports_of_the_package_alone(self):
+        for name, node in nodes():
+            if isinstance(node, ast.ImportFrom):
+                self.assertEqual(node.level, 0, name)
+                self.assertRegex(node.module, r"\Athreewebs\.[a-z][a-z0-9_]*\Z", name)
+                self.assertNotIn("*", [one.name for one in node.names], name)
+
+    def test_statements_that_are_out(self):
+        for name, node in nodes():
+            self.assertNotIsInstance(node, NODES_OUT, name)
+            if isinstance(node, (ast.For, ast.While)):
+                self.assertEqual(node.orelse, [], name)
+
+    def test_names_of_pythons_own(self):
+        for name, node in nodes():
+            if isinstance(node, ast.Name):
+                self.assertFalse(hasattr(builtins, node.id) and node.id not in OWN_NAMES, (name, node.id))
+                self.assertFalse(node.id.startswith("_"), (name, node.id))
+                self.assertFalse(isinstance(node.ctx, ast.Store) and node.id in OWN_NAMES, (name, node.id))
+            if isinstance(node, ast.arg):
+                self.assertFalse(hasattr(builtins, node.arg) or node.arg.startswith("_"), (name, node.arg))
+
+    def test_no_float_and_no_percent_sign_in_a_text(self):
+        for name, node in nodes():
+            if isinstance(node, ast.Constant):
+                self.assertNotIsInstance(node.value, (float, complex), name)
+                if isinstance(node.value, str):
+                    self.assertNotIn(chr(37), node.value, name)
+
+
+if __name__ == "__main__":
+    unittest.main()

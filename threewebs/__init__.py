@@ -1,0 +1,1 @@
+"""Threewebs: plane nets and the three kinds of their ties."""
