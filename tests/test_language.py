@@ -24,6 +24,13 @@ NODES_OUT = (
     ast.Await, ast.GeneratorExp, ast.NamedExpr, ast.Div,
 )
 
+METHODS = set(
+    "append clear copy count endswith extend find get index insert isalnum isalpha isdigit islower isspace isupper "
+    "items join keys ljust lower lstrip partition pop remove replace reverse rfind rjust rpartition rsplit rstrip "
+    "setdefault split splitlines startswith strip update upper values zfill bit_length sort add discard".split()
+)
+WALKED = {"zip", "enumerate", "reversed", "range"}
+
 
 def files():
     return sorted(FOLDER.rglob("*.py"))
@@ -33,6 +40,35 @@ def nodes():
     for file in files():
         for node in ast.walk(ast.parse(file.read_text(encoding="utf-8"))):
             yield file.name, node
+
+
+def trees():
+    return {file.stem: ast.parse(file.read_text(encoding="utf-8")) for file in files()}
+
+
+def drawn(tree):
+    """The pairs (module, name) that a file draws in."""
+    rows = [node for node in ast.walk(tree) if isinstance(node, ast.ImportFrom)]
+    return [(row.module.split(".")[1], one.name) for row in rows for one in row.names]
+
+
+def bound_at_top(tree):
+    names = [node.name for node in tree.body if isinstance(node, (ast.FunctionDef, ast.ClassDef))]
+    targets = [target for node in tree.body if isinstance(node, ast.Assign) for target in node.targets]
+    return names + [target.id for target in targets]
+
+
+def stored_in_defs(tree):
+    """Parameters, locals and the names of defs within defs."""
+    for top in ast.walk(tree):
+        if isinstance(top, ast.FunctionDef):
+            for node in ast.walk(top):
+                if isinstance(node, ast.Name) and isinstance(node.ctx, ast.Store):
+                    yield node.id
+                if isinstance(node, ast.arg):
+                    yield node.arg
+                if isinstance(node, ast.FunctionDef) and node != top:
+                    yield node.name
 
 
 class Form(unittest.TestCase):
@@ -80,6 +116,42 @@ class Form(unittest.TestCase):
                 self.assertFalse(isinstance(node.ctx, ast.Store) and node.id in OWN_NAMES, (name, node.id))
             if isinstance(node, ast.arg):
                 self.assertFalse(hasattr(builtins, node.arg) or node.arg.startswith("_"), (name, node.arg))
+
+    def test_each_name_is_drawn_from_the_file_that_defines_it(self):
+        tops = {stem: bound_at_top(tree) for stem, tree in trees().items()}
+        for stem, tree in trees().items():
+            names = [name for module, name in drawn(tree)]
+            self.assertEqual(len(names + tops[stem]), len(set(names + tops[stem])), stem)
+            for module, name in drawn(tree):
+                self.assertIn(name, tops[module], stem)
+
+    def test_no_two_files_draw_from_one_another(self):
+        left = {stem: {module for module, name in drawn(tree)} for stem, tree in trees().items()}
+        while left:
+            free = [stem for stem in left if not left[stem] & set(left)]
+            self.assertTrue(free, sorted(left))
+            left = {stem: left[stem] for stem in left if stem not in free}
+
+    def test_no_local_is_called_like_an_import_or_a_class(self):
+        for stem, tree in trees().items():
+            outer = {name for module, name in drawn(tree)}
+            outer |= {node.name for node in tree.body if isinstance(node, ast.ClassDef)}
+            for name in stored_in_defs(tree):
+                self.assertNotIn(name, outer, stem)
+                self.assertFalse(hasattr(builtins, name), (stem, name))
+
+    def test_methods(self):
+        own = {node.name for name, node in nodes() if isinstance(node, ast.FunctionDef)}
+        for name, node in nodes():
+            if isinstance(node, ast.Call) and isinstance(node.func, ast.Attribute):
+                self.assertIn(node.func.attr, METHODS | own, name)
+
+    def test_what_is_walked_on_the_spot_is_not_kept(self):
+        for name, node in nodes():
+            if isinstance(node, (ast.Assign, ast.Return)) and isinstance(node.value, ast.Call):
+                called = node.value.func
+                word = called.id if isinstance(called, ast.Name) else called.attr
+                self.assertNotIn(word, WALKED | {"items", "keys", "values"}, name)
 
     def test_no_float_and_no_percent_sign_in_a_text(self):
         for name, node in nodes():

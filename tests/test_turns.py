@@ -3,7 +3,9 @@
 import copy
 import unittest
 
-from threewebs.turns import ends_round, other_ends, turned_left, turned_right
+from threewebs.turns import (
+    ends_in_order, ends_round, left_steps, other_ends, right_steps, ties_by_end, turned_left, turned_right,
+)
 
 # Two points with a twin tie, a loop at one of them, and a spike.
 ROWS = [("a", ["x", "y", "l", "l"]), ("b", ["y", "x", "s"]), ("s", ["s"])]
@@ -94,6 +96,30 @@ class Turns(unittest.TestCase):
             end = turned_left(end, 7)
         self.assertEqual(seen, ends)
         self.assertEqual(end, ends[0])
+
+
+class Steps(unittest.TestCase):
+    def test_ends_of_all_rows_in_order(self):
+        self.assertEqual(ends_in_order([("a", [])]), [])
+        self.assertEqual(ends_in_order(ROWS), [("a", 0), ("a", 1), ("a", 2), ("a", 3)]
+                         + [("b", 0), ("b", 1), ("b", 2), ("s", 0)])
+
+    def test_ties_by_end(self):
+        self.assertEqual(ties_by_end([("a", [])]), {})
+        self.assertEqual(list(ties_by_end(ROWS).values()), ["x", "y", "l", "l", "y", "x", "s", "s"])
+        self.assertEqual(list(ties_by_end(ROWS)), ends_in_order(ROWS))
+
+    def test_along_and_left(self):
+        steps = left_steps(ROWS)
+        self.assertEqual([steps[end] for end in ends_in_order(ROWS)], [
+            ("b", 2), ("b", 1), ("a", 0), ("a", 3), ("a", 2), ("a", 1), ("s", 0), ("b", 0),
+        ])
+
+    def test_along_and_right(self):
+        steps = right_steps(ROWS)
+        self.assertEqual([steps[end] for end in ends_in_order(ROWS)], [
+            ("b", 0), ("b", 2), ("a", 2), ("a", 1), ("a", 0), ("a", 3), ("s", 0), ("b", 1),
+        ])
 
 
 if __name__ == "__main__":

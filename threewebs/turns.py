@@ -2,6 +2,7 @@
 
 An end is a tuple (point, place). A turn needs to know of the point only how
 many ends stand round it; so the turns are told of an end and that number.
+The steps are told of whole rows: along a tie and round the point behind it.
 """
 
 
@@ -9,6 +10,11 @@ def ends_round(row):
     """The ends of one row, place by place."""
     point, ties = row
     return [(point, place) for place in range(len(ties))]
+
+
+def ends_in_order(rows):
+    """The ends of all rows, row by row and in each row place by place."""
+    return [end for row in rows for end in ends_round(row)]
 
 
 def turned_left(end, many):
@@ -35,3 +41,20 @@ def other_ends(rows):
             else:
                 met[tie] = end
     return others
+
+
+def ties_by_end(rows):
+    """A dict that gives for each end the name of its tie."""
+    return {end: tie for row in rows for end, tie in zip(ends_round(row), row[1])}
+
+
+def left_steps(rows):
+    """A dict that gives for each end the one by which one leaves who goes along its tie and turns left."""
+    lists = dict(rows)
+    return {end: turned_left(other, len(lists[other[0]])) for end, other in other_ends(rows).items()}
+
+
+def right_steps(rows):
+    """A dict that gives for each end the one by which one leaves who goes along its tie and turns right."""
+    lists = dict(rows)
+    return {end: turned_right(other, len(lists[other[0]])) for end, other in other_ends(rows).items()}

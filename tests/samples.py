@@ -1,0 +1,246 @@
+"""Nets for the tests, and slow, plain reckonings that lean on nothing of the program."""
+
+import copy
+import itertools
+
+BARE = [("a", [])]
+LOOP = [("a", ["x", "x"])]
+TIE = [("a", ["x"]), ("b", ["x"])]
+TWINS = [("a", ["x", "y"]), ("b", ["y", "x"])]
+TRIPLE = [("a", ["x", "y", "z"]), ("b", ["z", "y", "x"])]
+WITHIN = [("a", ["k", "l", "l", "k"])]
+BESIDE = [("a", ["k", "k", "l", "l"])]
+# A loop within a loop, with a spike between them and a loop at its tip.
+DEEP = [("a", ["k", "l", "s", "l", "k"]), ("b", ["s", "m", "m"])]
+# Two points with a twin tie, a loop at one of them, and a spike.
+MIXED = [("a", ["x", "y", "l", "l"]), ("b", ["y", "x", "s"]), ("s", ["s"])]
+TRIANGLE = [("c", ["ac", "bc"]), ("a", ["ab", "ac"]), ("b", ["bc", "ab"])]
+# The rows are told out of order, and the names sort otherwise than they stand.
+FOURS = [
+    ("d", ["cd", "bd", "ad"]), ("b", ["ab", "bd", "bc"]), ("a", ["ac", "ad", "ab"]), ("c", ["bc", "cd", "ac"]),
+]
+# Two triangles with a bridge between them; a point and a tie of the same name; names of eight signs.
+BRIDGED = [
+    ("a", ["p", "q", "a"]), ("b", ["r", "p"]), ("c", ["q", "r"]),
+    ("point001", ["zzzzzzz9", "a", "zzzzzzz8"]), ("0", ["00", "zzzzzzz9"]), ("9", ["zzzzzzz8", "00"]),
+]
+SMALL = [BARE, LOOP, TIE, TWINS, TRIPLE, WITHIN, BESIDE, DEEP, MIXED, TRIANGLE, FOURS, BRIDGED]
+
+
+def star(many):
+    """A point with so many spikes."""
+    return [("hub", [f"t{k}" for k in range(many)])] + [(f"p{k}", [f"t{k}"]) for k in range(many)]
+
+
+def path(many):
+    """So many ties one behind the other, from point p0 on."""
+    inner = [(f"p{k}", [f"t{k - 1}", f"t{k}"]) for k in range(1, many)]
+    return [("p0", ["t0"])] + inner + [(f"p{many}", [f"t{many - 1}"])]
+
+
+def ring(many):
+    """So many points in a ring."""
+    return [(f"p{k}", [f"t{k}", f"t{(k + 1) % many}"]) for k in range(many)]
+
+
+def twins(many):
+    """So many ties between two points."""
+    names = [f"t{k}" for k in range(many)]
+    return [("a", names), ("b", names[::-1])]
+
+
+def loops_within(many):
+    names = [f"t{k}" for k in range(many)]
+    return [("a", names + names[::-1])]
+
+
+def loops_beside(many):
+    return [("a", [f"t{k // 2}" for k in range(2 * many)])]
+
+
+def wheel(many):
+    """A hub with so many spokes, and a rim round it: twice as many ties."""
+    rim = [(f"p{k}", [f"r{k}", f"s{k}", f"r{(k - 1) % many}"]) for k in range(many)]
+    return [("hub", [f"s{k}" for k in range(many)])] + rim
+
+
+def ladder(many):
+    """Two rows of so many points and the rungs between them."""
+    rows = []
+    for k in range(many):
+        back = [k - 1] if k > 0 else []
+        on = [k] if k < many - 1 else []
+        rows.append((f"u{k}", [f"u{j}" for j in on] + [f"m{k}"] + [f"u{j}" for j in back]))
+        rows.append((f"d{k}", [f"m{k}"] + [f"d{j}" for j in on] + [f"d{j}" for j in back]))
+    return rows
+
+
+BIG = [
+    star(40), path(40), ring(40), twins(40), loops_within(40), loops_beside(40), wheel(20), ladder(14),
+]
+
+
+class Dice:
+    """Numbers that look thrown and are the same at each run."""
+
+    def __init__(self, seed):
+        self.state = seed * 7919 + 12345
+
+    def throw(self, many):
+        self.state = (self.state * 6364136223846793005 + 1442695040888963407) & ((1 << 64) - 1)
+        return (self.state >> 33) % many
+
+
+def grown(seed, many):
+    """A net of so many ties that grows from the bare point by spikes and by ties within a face."""
+    dice = Dice(seed)
+    lists = {"0": []}
+    loving = dice.throw(5)
+    for step in range(many):
+        tie = f"{'zyxab9'[dice.throw(6)]}{step}"
+        corners = slow_corners(lists)
+        face = corners[dice.throw(len(corners))]
+        point, place = face[dice.throw(len(face))]
+        if dice.throw(6) < loving:
+            new = f"{'qp1'[dice.throw(3)]}{step}"
+            lists[point].insert(place, tie)
+            lists[new] = [tie]
+        else:
+            other, where = face[dice.throw(len(face))]
+            put_in(lists, (point, place), (other, where), tie)
+    rows = [(point, turned(ties, dice.throw(len(ties) + 1))) for point, ties in lists.items()]
+    cut = dice.throw(len(rows))
+    return rows[cut:] + rows[:cut]
+
+
+def put_in(lists, one, other, tie):
+    places = sorted([one, other], key=lambda corner: corner[1], reverse=True)
+    for point, place in places:
+        lists[point].insert(place, tie)
+
+
+def turned(ties, many):
+    return ties[many:] + ties[:many]
+
+
+def slow_corners(lists):
+    """The corners of each face; a corner is told as the end behind it."""
+    faces = slow_faces(list(lists.items()))
+    return [face if face else [(point, 0) for point in lists] for face in faces]
+
+
+def slow_ends(rows):
+    return [(point, place) for point, ties in rows for place in range(len(ties))]
+
+
+def slow_tie(rows, end):
+    return [ties[end[1]] for point, ties in rows if point == end[0]][0]
+
+
+def slow_other(rows, end):
+    tie = slow_tie(rows, end)
+    return [one for one in slow_ends(rows) if one != end and slow_tie(rows, one) == tie][0]
+
+
+def slow_turn(rows, end, by):
+    many = [len(ties) for point, ties in rows if point == end[0]][0]
+    return (end[0], (end[1] + by + many) % many)
+
+
+def slow_faces(rows):
+    left = slow_ends(rows)
+    faces = [] if left else [[]]
+    while left:
+        face = []
+        end = left[0]
+        while end in left:
+            left.remove(end)
+            face.append(end)
+            end = slow_turn(rows, slow_other(rows, end), 1)
+        faces.append(face)
+    return faces
+
+
+def slow_points(rows, tie):
+    """The points of the two ends of a tie, one point twice for a loop."""
+    return [point for point, ties in rows for each in ties if each == tie]
+
+
+def slow_ties(rows):
+    return sorted({tie for point, ties in rows for tie in ties})
+
+
+def slow_groups(rows, some):
+    """How many parts the points fall into that hang together by some of the ties."""
+    group = {point: {point} for point, ties in rows}
+    for tie in some:
+        one, other = slow_points(rows, tie)
+        both = group[one] | group[other]
+        for point in both:
+            group[point] = both
+    return len({frozenset(points) for points in group.values()})
+
+
+def slow_is_round(rows, some):
+    ends = [point for tie in some for point in slow_points(rows, tie)]
+    return all(ends.count(point) % 2 == 0 for point, ties in rows)
+
+
+def slow_cut(rows, points):
+    return [tie for tie in slow_ties(rows) if len([p for p in slow_points(rows, tie) if p in points]) == 1]
+
+
+def subsets(things):
+    """All sets of some things, each sorted."""
+    for many in range(len(things) + 1):
+        for some in itertools.combinations(sorted(things), many):
+            yield list(some)
+
+
+def slow_sides(rows):
+    """All cuts, told as tuples, each with its side."""
+    points = [point for point, ties in rows[1:]]
+    return {tuple(slow_cut(rows, side)): side for side in subsets(points)}
+
+
+def lists_within(thing):
+    """All lists in a thing, itself too."""
+    found = [thing] if isinstance(thing, list) else []
+    if isinstance(thing, (list, tuple)):
+        for each in thing:
+            found += lists_within(each)
+    return found
+
+
+def check_own(test, asked, *things):
+    """Nothing handed in is changed, and each answer has lists of its own, whatever is done to an earlier one."""
+    before = copy.deepcopy(things)
+    first = asked(*things)
+    kept = copy.deepcopy(first)
+    test.assertEqual(things, before, asked)
+    handed = [id(each) for each in lists_within(things)]
+    told = [id(each) for each in lists_within(first)]
+    test.assertEqual(len(told), len(set(told)), asked)
+    test.assertFalse(set(told) & set(handed), asked)
+    second = asked(*things)
+    test.assertEqual(second, kept, asked)
+    for each in lists_within(first):
+        each.reverse()
+        each.append("spoilt")
+    test.assertEqual(second, kept, asked)
+    test.assertEqual(things, before, asked)
+    test.assertEqual(asked(*things), kept, asked)
+    for each in lists_within(things):
+        each.clear()
+    test.assertEqual(second, kept, asked)
+    test.assertEqual(asked(*copy.deepcopy(before)), kept, asked)
+
+
+def fresh(rows):
+    return copy.deepcopy(rows)
+
+
+GROWN = [grown(seed, 1 + seed % 11) for seed in range(60)]
+LARGE = [grown(seed, 40) for seed in range(100, 112)]
+MANY = SMALL + GROWN
+ALL = MANY + BIG + LARGE
