@@ -75,8 +75,32 @@ def ladder(many):
     return rows
 
 
+def chain(many):
+    """So many pairs of twin ties one behind the other: one walker more than pairs."""
+    rows = []
+    for k in range(many + 1):
+        back = [f"u{k - 1}", f"t{k - 1}"] if k > 0 else []
+        on = [f"t{k}", f"u{k}"] if k < many else []
+        rows.append((f"p{k}", back + on))
+    return rows
+
+
+def grid(wide, high):
+    """Points in so many columns and rows, each tied to its neighbours."""
+    rows = []
+    for x in range(wide):
+        for y in range(high):
+            ties = [f"v{x}x{y + 1}"] if y < high - 1 else []
+            ties += [f"h{x + 1}x{y}"] if x < wide - 1 else []
+            ties += [f"v{x}x{y}"] if y > 0 else []
+            ties += [f"h{x}x{y}"] if x > 0 else []
+            rows.append((f"p{x}x{y}", ties))
+    return rows
+
+
 BIG = [
-    star(40), path(40), ring(40), twins(40), loops_within(40), loops_beside(40), wheel(20), ladder(14),
+    star(40), path(40), ring(40), twins(40), loops_within(40), loops_beside(40), wheel(20), ladder(14), chain(20),
+    grid(5, 5),
 ]
 
 
@@ -190,6 +214,53 @@ def slow_cut(rows, points):
     return [tie for tie in slow_ties(rows) if len([p for p in slow_points(rows, tie) if p in points]) == 1]
 
 
+def slow_is_tree(rows, some):
+    """By the words of [17]: the net hangs together, and no set in it is a round but the one without ties."""
+    return slow_groups(rows, some) == 1 and not any(slow_is_round(rows, part) for part in subsets(some) if part)
+
+
+def slow_walkers(rows):
+    """By the words of [18] and [19], step by step."""
+    walkers = []
+    begun = []
+    for first in slow_ends(rows):
+        if first not in begun:
+            walker = slow_walk(rows, first)
+            walkers.append(walker)
+            begun += walker[::2] + slow_back(rows, walker)[::2]
+    return walkers
+
+
+def slow_walk(rows, first):
+    walker = []
+    end, left = first, True
+    while not walker or (end, left) != (first, True):
+        walker.append(end)
+        end = slow_turn(rows, slow_other(rows, end), 1 if left else -1)
+        left = not left
+    return walker
+
+
+def slow_back(rows, walker):
+    """The way back, begun with a tie behind which there is a left turn."""
+    back = [slow_other(rows, end) for end in walker[::-1]]
+    return back[1:] + back[:1]
+
+
+def slow_core(rows, walker):
+    names = [slow_tie(rows, end) for end in walker]
+    return sorted(name for name in names if names.count(name) == 1)
+
+
+def slow_sum(sets):
+    names = [name for each in sets for name in each]
+    return sorted({name for name in names if names.count(name) % 2 == 1})
+
+
+def slow_doubles(rows):
+    return sorted(list(cut) for cut in slow_sides(rows) if slow_is_round(rows, cut))
+
+
 def subsets(things):
     """All sets of some things, each sorted."""
     for many in range(len(things) + 1):
@@ -242,5 +313,6 @@ def fresh(rows):
 
 GROWN = [grown(seed, 1 + seed % 11) for seed in range(60)]
 LARGE = [grown(seed, 40) for seed in range(100, 112)]
-MANY = SMALL + GROWN
+CHAINED = [chain(2), chain(3), grid(2, 3), grid(3, 3), ladder(3), wheel(3), wheel(4)]
+MANY = SMALL + GROWN + CHAINED
 ALL = MANY + BIG + LARGE
