@@ -98,6 +98,26 @@ def grid(wide, high):
     return rows
 
 
+def theta(lengths):
+    """Two points, and between them paths of so many ties each."""
+    lists = {"a": [], "b": []}
+    for number, length in enumerate(lengths):
+        names = [f"t{number}x{k}" for k in range(length)]
+        lists["a"].append(names[0])
+        lists["b"].insert(0, names[-1])
+        for k in range(1, length):
+            lists[f"p{number}x{k}"] = names[k - 1:k + 1]
+    return list(lists.items())
+
+
+def hung(*nets):
+    """Several nets as one: the points of their first rows are one; each net's names have a sign of its own ahead."""
+    marked = [[(f"{sign}{point}", [f"{sign}{tie}" for tie in ties]) for point, ties in rows]
+              for sign, rows in zip("smczy1", nets)]
+    first = [tie for rows in marked for tie in rows[0][1]]
+    return [("hook", first)] + [row for rows in marked for row in rows[1:]]
+
+
 BIG = [
     star(40), path(40), ring(40), twins(40), loops_within(40), loops_beside(40), wheel(20), ladder(14), chain(20),
     grid(5, 5),
@@ -135,6 +155,27 @@ def grown(seed, many):
     rows = [(point, turned(ties, dice.throw(len(ties) + 1))) for point, ties in lists.items()]
     cut = dice.throw(len(rows))
     return rows[cut:] + rows[:cut]
+
+
+def woven(seed, many):
+    """A net of so many ties that grows by spikes, then by ties between unlike points of a face: it has many trees."""
+    dice = Dice(seed)
+    lists = {"m": []}
+    for step in range(many):
+        tie = f"{'k3t'[dice.throw(3)]}{step}"
+        faces = [face for face in slow_corners(lists) if len({point for point, place in face}) > 1]
+        if 5 * step < 2 * many or not faces:
+            faces = slow_corners(lists)
+            face = faces[dice.throw(len(faces))]
+            point, place = face[dice.throw(len(face))]
+            lists[point].insert(place, tie)
+            lists[f"p{step}"] = [tie]
+        else:
+            face = faces[dice.throw(len(faces))]
+            one = face[dice.throw(len(face))]
+            others = [corner for corner in face if corner[0] != one[0]]
+            put_in(lists, one, others[dice.throw(len(others))], tie)
+    return list(lists.items())
 
 
 def put_in(lists, one, other, tie):
@@ -261,6 +302,45 @@ def slow_doubles(rows):
     return sorted(list(cut) for cut in slow_sides(rows) if slow_is_round(rows, cut))
 
 
+def slow_is_cut(rows, some):
+    """Whether the points can be put on two sides so that just these ties lead from one side to the other."""
+    side = {rows[0][0]: False}
+    while len(side) < len(rows):
+        for tie in slow_ties(rows):
+            one, other = slow_points(rows, tie)
+            if one in side:
+                side.setdefault(other, side[one] != (tie in some))
+            elif other in side:
+                side.setdefault(one, side[other] != (tie in some))
+    return slow_cut(rows, [point for point in side if side[point]]) == some
+
+
+def slow_trees(rows):
+    """All sets of one tie less than there are points by which the net hangs together."""
+    sets = itertools.combinations(slow_ties(rows), len(rows) - 1)
+    return sorted(list(some) for some in sets if slow_groups(rows, some) == 1)
+
+
+def slow_tree_count(rows):
+    """By a tie's being in a tree or not, with a count kept for each net met on the way."""
+    return count_by([tuple(slow_points(rows, tie)) for tie in slow_ties(rows)], len(rows), {})
+
+
+def count_by(links, many, met):
+    """The number of trees of so many points; links of points, each a pair."""
+    links = sorted(tuple(sorted(link)) for link in links if link[0] != link[1])
+    if not links:
+        return 1 if many == 1 else 0
+    key = (tuple(links), many)
+    if key not in met:
+        one, other = links[0]
+        shrunk = [tuple(one if point == other else point for point in link) for link in links]
+        twins = links.count(links[0])
+        rest = [link for link in links if link != links[0]]
+        met[key] = twins * count_by(shrunk, many - 1, met) + count_by(rest, many, met)
+    return met[key]
+
+
 def subsets(things):
     """All sets of some things, each sorted."""
     for many in range(len(things) + 1):
@@ -313,6 +393,9 @@ def fresh(rows):
 
 GROWN = [grown(seed, 1 + seed % 11) for seed in range(60)]
 LARGE = [grown(seed, 40) for seed in range(100, 112)]
+# With many trees; some with one walker, some with several.
+WOVEN = [woven(seed, 3 + seed % 9) for seed in range(30)]
+DENSE = [woven(seed, many) for seed, many in enumerate([15, 18, 21, 24, 30, 33, 36, 39, 40, 40, 40, 40], start=50)]
 CHAINED = [chain(2), chain(3), grid(2, 3), grid(3, 3), ladder(3), wheel(3), wheel(4)]
 MANY = SMALL + GROWN + CHAINED
 ALL = MANY + BIG + LARGE

@@ -4,7 +4,7 @@ The ties are also told as links between points; what hangs together by links is
 found by spreading along them. Sets, trees and doubles lean on this.
 """
 
-from threewebs.errors import Broken, NoNet, NoPlane
+from threewebs.errors import Broken, NoNet, NoPlane, NoTie
 from threewebs.faces import faces_of
 from threewebs.names import is_name
 from threewebs.turns import ends_in_order, other_ends, ties_by_end, turned_left, turned_right
@@ -56,6 +56,12 @@ def points_of(rows):
 def ties_of(rows):
     """The set of all ties."""
     return sorted({tie for point, ties in rows for tie in ties})
+
+
+def need_tie(rows, tie):
+    """Refuses any text that is no tie's name of the net."""
+    if tie not in ties_of(rows):
+        raise NoTie("this is no tie's name of the net")
 
 
 def ends_of(rows):

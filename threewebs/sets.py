@@ -8,9 +8,14 @@ def summed(one, other):
     return sorted(set(one) ^ set(other))
 
 
+def odd_points(rows, some):
+    """The set of the points that have an odd number of ends of a set of ties."""
+    return sorted([point for point, ties in rows if len([tie for tie in ties if tie in some]) % 2 == 1])
+
+
 def is_round(rows, some):
     """Whether each point has an even number of ends of a set of ties."""
-    return all([len([tie for tie in ties if tie in some]) % 2 == 0 for point, ties in rows])
+    return not odd_points(rows, some)
 
 
 def cut_of(rows, points):

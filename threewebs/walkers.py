@@ -1,7 +1,6 @@
 """Walkers: they go along a tie, turn left, go along a tie, turn right, and so on."""
 
-from threewebs.errors import NoTie
-from threewebs.nets import ties_of
+from threewebs.nets import need_tie
 from threewebs.turns import ends_in_order, left_steps, right_steps, ties_by_end
 
 
@@ -34,8 +33,7 @@ def walker_from(lefts, rights, first):
 
 def passes_of(rows, tie):
     """The two passes of a tie as tuples (number, end): with a left turn behind it, then with a right turn."""
-    if tie not in ties_of(rows):
-        raise NoTie("this is no tie's name of the net")
+    need_tie(rows, tie)
     names = ties_by_end(rows)
     walkers = walkers_of(rows)
     # All walkers together go along a tie just once with either turn.
