@@ -1,7 +1,9 @@
-"""Nets for the tests, and slow, plain reckonings that lean on nothing of the program."""
+"""Nets for the tests, and slow, plain reckonings that lean on nothing of the program but its refusals."""
 
 import copy
 import itertools
+
+from threewebs.errors import NetError
 
 BARE = [("a", [])]
 LOOP = [("a", ["x", "x"])]
@@ -385,6 +387,66 @@ def check_own(test, asked, *things):
         each.clear()
     test.assertEqual(second, kept, asked)
     test.assertEqual(asked(*copy.deepcopy(before)), kept, asked)
+
+
+def answer(asked, *things):
+    """What is told, or the class of the refusal."""
+    try:
+        return asked(*things)
+    except NetError as error:
+        return type(error)
+
+
+def thrown_name(dice, names):
+    """Now and then a name that is there already, or none; else a new one."""
+    chance = dice.throw(12)
+    if chance == 0 and names:
+        return names[dice.throw(len(names))]
+    return "No" if chance == 1 else f"{'hgf'[dice.throw(3)]}{dice.throw(10000)}"
+
+
+def thrown_corner(dice, rows):
+    """A corner of the net, or what is nearly one."""
+    point, ties = rows[dice.throw(len(rows))]
+    if dice.throw(10) == 0:
+        return (point, len(ties) + dice.throw(2))
+    if dice.throw(10) == 0:
+        return ("nope", 0)
+    return (point, dice.throw(max(len(ties), 1)))
+
+
+def thrown_deed(dice, rows):
+    """A deed as the name of a web's method and what is handed in; some of them are refused."""
+    ties = slow_ties(rows)
+    points = [point for point, each in rows]
+    chance = dice.throw(10)
+    if chance < 3:
+        return "spike", thrown_corner(dice, rows), thrown_name(dice, ties), thrown_name(dice, points)
+    if chance < 7:
+        one, other = thrown_corner(dice, rows), thrown_corner(dice, rows)
+        return "link", one, other if dice.throw(3) else one, thrown_name(dice, ties)
+    tie = ties[dice.throw(len(ties))] if ties and dice.throw(9) else thrown_name(dice, [])
+    return "take_out" if chance < 9 else "shrink", tie
+
+
+def check_refused(test, by, asked, *things):
+    """Asked so, just this refusal comes, is taken by its classes, and changes nothing that was handed in."""
+    before = copy.deepcopy(things)
+    for taken in [by, NetError, ValueError]:
+        with test.assertRaises(taken, msg=things) as kept:
+            asked(*things)
+        test.assertIs(type(kept.exception), by, things)
+    test.assertEqual(things, before)
+
+
+def form(rows):
+    """What is left of rows but for the points' names, their order, and where the lists begin."""
+    return sorted(min(turned(ties, k) for k in range(len(ties) + 1)) for point, ties in rows)
+
+
+def slow_corner_faces(rows):
+    """The corners of each face."""
+    return [face if face else [(rows[0][0], 0)] for face in slow_faces(rows)]
 
 
 def fresh(rows):

@@ -146,6 +146,22 @@ class Form(unittest.TestCase):
             if isinstance(node, ast.Call) and isinstance(node.func, ast.Attribute):
                 self.assertIn(node.func.attr, METHODS | own, name)
 
+    def test_no_name_is_a_method_and_a_value(self):
+        classes = [node for name, node in nodes() if isinstance(node, ast.ClassDef)]
+        methods = {each.name for node in classes for each in node.body if isinstance(each, ast.FunctionDef)}
+        for name, node in nodes():
+            if isinstance(node, ast.Attribute) and isinstance(node.ctx, ast.Store):
+                self.assertNotIn(node.attr, methods, name)
+
+    def test_classes_hold_methods_and_words_alone(self):
+        for name, node in nodes():
+            if isinstance(node, ast.ClassDef):
+                for each in node.body:
+                    words = isinstance(each, ast.Expr) and isinstance(each.value, ast.Constant)
+                    self.assertTrue(words or isinstance(each, ast.FunctionDef), (name, node.name))
+                self.assertLessEqual(len(node.bases), 1)
+                self.assertEqual(node.decorator_list + node.keywords, [])
+
     def test_what_is_walked_on_the_spot_is_not_kept(self):
         for name, node in nodes():
             if isinstance(node, (ast.Assign, ast.Return)) and isinstance(node.value, ast.Call):
