@@ -206,7 +206,8 @@ def slow_tie(rows, end):
 
 def slow_other(rows, end):
     tie = slow_tie(rows, end)
-    return [one for one in slow_ends(rows) if one != end and slow_tie(rows, one) == tie][0]
+    both = [(point, place) for point, ties in rows for place, each in enumerate(ties) if each == tie]
+    return [one for one in both if one != end][0]
 
 
 def slow_turn(rows, end, by):
